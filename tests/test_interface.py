@@ -1,0 +1,46 @@
+"""[2] and the interface: the names, the arguments, and that what is handed in stays as it is."""
+
+import copy
+import importlib
+import inspect
+import unittest
+
+from tests.things import any_things, same
+
+SIGNATURES = {
+    "kinds": ("is_number(thing)", "is_word(thing)"),
+    "sums": ("is_sum(thing)", "worth(amount, *, slots=())", "slots_of(amount)"),
+    "stores": ("is_kind(thing)", "is_store(thing)", "can_have(kind, thing)", "kinds_of(store)", "values_of(store)",
+               "with_values(store, values)"),
+    "changes": ("changed(kind, has, *, word, number)",),
+    "merges": ("merged(kind, *, base, mine, theirs)", "merged_cells(kinds, written, *, base, mine, theirs)"),
+}
+OF_ANY_THING = ("kinds.is_number", "kinds.is_word", "sums.is_sum", "stores.is_kind", "stores.is_store")
+
+
+def module(name):
+    return importlib.import_module("forkjoins." + name)
+
+
+def found(dotted):
+    name, function = dotted.split(".")
+    return getattr(module(name), function)
+
+
+class Names(unittest.TestCase):
+    def test_functions_and_their_arguments(self):
+        for name, rows in SIGNATURES.items():
+            for row in rows:
+                function = getattr(module(name), row[:row.index("(")])
+                self.assertEqual(function.__name__ + str(inspect.signature(function)), row)
+                self.assertEqual(function.__module__, "forkjoins." + name)
+
+
+class AnyThing(unittest.TestCase):
+    def test_just_true_or_false_and_nothing_changed(self):
+        for dotted in OF_ANY_THING:
+            for thing in any_things():
+                kept = copy.deepcopy(thing)
+                self.assertIn(found(dotted)(thing), (True, False))
+                self.assertIs(type(found(dotted)(thing)), bool)
+                self.assertTrue(same(thing, kept))

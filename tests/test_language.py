@@ -1,0 +1,133 @@
+"""Those rules of the language that a look at the files can tell."""
+
+import ast
+import builtins
+import pathlib
+import re
+import unittest
+
+FOLDER = pathlib.Path(__file__).resolve().parent.parent / "forkjoins"
+FILES = sorted(FOLDER.glob("*.py"))
+ALLOWED = set((
+    "len range enumerate zip min max sum abs sorted reversed int str bool bytes list tuple dict set frozenset "
+    "isinstance ord repr any all divmod Exception ValueError TypeError KeyError IndexError LookupError "
+    "ZeroDivisionError ArithmeticError OverflowError RuntimeError NotImplementedError AttributeError "
+    "StopIteration NotImplemented").split())
+BARRED = set((
+    "register mro elements open input version_info with_traceback add_note attrgetter breakpoint builtins compile "
+    "copyright credits delattr dir eval exec exit gc getattr globals hasattr help id importlib license locals "
+    "methodcaller os quit setattr super vars sys").split())
+WORDS = re.compile(
+    r"\b(type|typing|typing_extensions|enum|Enum|IntEnum|StrEnum|Flag|IntFlag|Generic|Protocol|ABC|ABCMeta|"
+    r"namedtuple|NamedTuple|TypedDict|TYPE_CHECKING|abstractmethod)\b|dataclass|overload|contextmanager")
+STATEMENTS = (ast.Global, ast.AsyncFunctionDef, ast.AsyncFor, ast.AsyncWith, ast.Await, ast.Import, ast.Div)
+FUNCTIONS = (ast.FunctionDef, ast.Lambda)
+
+
+def bound_names(tree):
+    """Names of variables and parameters, with those of functions and classes."""
+    for node in ast.walk(tree):
+        if isinstance(node, ast.Name) and isinstance(node.ctx, ast.Store):
+            yield node.id
+        elif isinstance(node, ast.arg):
+            yield node.arg
+        elif isinstance(node, (ast.FunctionDef, ast.ClassDef)):
+            yield node.name
+
+
+def inner_names(tree):
+    """Names of variables and parameters within functions."""
+    for node in ast.walk(tree):
+        if isinstance(node, FUNCTIONS):
+            for inner in ast.walk(node):
+                if isinstance(inner, ast.Name) and isinstance(inner.ctx, ast.Store):
+                    yield inner.id
+                elif isinstance(inner, ast.arg):
+                    yield inner.arg
+
+
+def imports(tree):
+    return [node for node in tree.body if isinstance(node, ast.ImportFrom)]
+
+
+class Files(unittest.TestCase):
+    def test_nothing_but_python_files(self):
+        names = [path.name for path in FOLDER.iterdir() if path.name != "__pycache__"]
+        self.assertIn("__init__.py", names)
+        for name in names:
+            self.assertRegex(name, r"^[a-z0-9_]+\.py$")
+
+    def test_signs_and_sizes(self):
+        for path in FILES:
+            text = path.read_text(encoding="utf-8")
+            self.assertNotRegex(text, r"[^ -~\n]", path.name)
+            self.assertLessEqual(len(text.splitlines()), 400, path.name)
+            for line in text.splitlines():
+                self.assertLessEqual(len(line), 120, path.name)
+            self.assertIsNone(WORDS.search(text), path.name)
+
+    def test_short_functions(self):
+        for path in FILES:
+            for node in ast.walk(ast.parse(path.read_text())):
+                if isinstance(node, ast.FunctionDef):
+                    self.assertLessEqual(node.end_lineno - node.lineno + 1, 40, node.name)
+
+
+class Code(unittest.TestCase):
+    def trees(self):
+        return [(path, ast.parse(path.read_text())) for path in FILES]
+
+    def test_statements_and_values(self):
+        for path, tree in self.trees():
+            for node in ast.walk(tree):
+                self.assertNotIsInstance(node, STATEMENTS, path.name)
+                if isinstance(node, ast.Constant):
+                    self.assertNotIsInstance(node.value, (float, complex), path.name)
+                    self.assertNotIn("%", str(node.value), path.name)
+                if isinstance(node, ast.Compare):
+                    for sign, side in zip(node.ops, node.comparators):
+                        if isinstance(sign, (ast.Is, ast.IsNot)):
+                            self.assertIn(ast.unparse(side), ("None", "True", "False"))
+
+    def test_module_level(self):
+        for path, tree in self.trees():
+            for node in tree.body:
+                plain = (ast.ImportFrom, ast.FunctionDef, ast.ClassDef, ast.Assign, ast.Expr)
+                self.assertIsInstance(node, plain, path.name)
+            names = [alias.name for node in imports(tree) for alias in node.names]
+            names += [node.name for node in tree.body if isinstance(node, (ast.FunctionDef, ast.ClassDef))]
+            names += [node.targets[0].id for node in tree.body if isinstance(node, ast.Assign)]
+            self.assertEqual(len(names), len(set(names)), path.name)
+
+    def test_imports(self):
+        for path, tree in self.trees():
+            for node in imports(tree):
+                self.assertRegex(node.module, r"^forkjoins\.[a-z]+$", path.name)
+                home = ast.parse((FOLDER / (node.module.split(".")[1] + ".py")).read_text())
+                for alias in node.names:
+                    self.assertIsNone(alias.asname)
+                    self.assertIn(alias.name, set(bound_names(home)))
+
+    def test_no_ring_of_imports(self):
+        needs = {path.stem: [node.module.split(".")[1] for node in imports(tree)] for path, tree in self.trees()}
+        while needs:
+            free = [name for name in needs if not needs[name]]
+            self.assertTrue(free, needs)
+            needs = {name: [need for need in needs[name] if need not in free] for name in needs if name not in free}
+
+    def test_names(self):
+        for path, tree in self.trees():
+            for name in bound_names(tree):
+                self.assertNotIn(name, BARRED, path.name)
+                if name != "__init__":
+                    self.assertFalse(hasattr(builtins, name), (path.name, name))
+                    self.assertFalse(name.startswith("_"), (path.name, name))
+            taken = {alias.name for node in imports(tree) for alias in node.names}
+            taken |= {node.name for node in tree.body if isinstance(node, ast.ClassDef)}
+            self.assertEqual(taken & set(inner_names(tree)), set(), path.name)
+
+    def test_builtins(self):
+        for path, tree in self.trees():
+            for node in ast.walk(tree):
+                if isinstance(node, ast.Name) and hasattr(builtins, node.id):
+                    self.assertIn(node.id, ALLOWED, path.name)
