@@ -14,8 +14,18 @@ SIGNATURES = {
                "with_values(store, values)"),
     "changes": ("changed(kind, has, *, word, number)",),
     "merges": ("merged(kind, *, base, mine, theirs)", "merged_cells(kinds, written, *, base, mine, theirs)"),
+    "orders": ("numbers_of(amount)", "in_order(kind, *, mine, joins=())", "both_orders(kind, *, mine, one, other)",
+               "order_paper(kind, *, same_base=False, reach=1)"),
+    "orderchecker": ("lets_order(kind, thing, *, same_base=False)",),
+    "programs": ("is_step(thing)", "is_program(thing)", "goes_with(program, store)", "cells_of(program, *, written=False)",
+                 "fits(program, *, most=30, deep=5, forks=12)"),
+    "plain": ("plain_run(store, program)", "programs_of(store, program)"),
+    "rows": ("row_of(rows, path)", "lost(store, program)"),
+    "diagram": ("diagram(store, program)",),
+    "ahead": ("is_ahead(drawn, one, other)", "chain_or_cut(drawn, one, other)"),
 }
-OF_ANY_THING = ("kinds.is_number", "kinds.is_word", "sums.is_sum", "stores.is_kind", "stores.is_store")
+OF_ANY_THING = ("kinds.is_number", "kinds.is_word", "sums.is_sum", "stores.is_kind", "stores.is_store",
+                "programs.is_step", "programs.is_program")
 
 
 def module(name):
