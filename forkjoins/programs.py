@@ -8,18 +8,18 @@ MOST_STEPS = 30
 MOST_DEEP = 5
 MOST_FORKS = 12
 FORMS = {
-    "read": ("word", "cell"),
-    "has": ("word", "cell", "sum"),
+    "read": ("slot", "cell"),
+    "has": ("slot", "cell", "sum"),
     "write": ("cell", "sum"),
     "add": ("cell", "sum"),
     "put": ("cell", "sum"),
     "take": ("cell", "sum"),
     "row": ("cell", "sum"),
-    "let": ("word", "sum"),
+    "let": ("slot", "sum"),
     "tell": ("sum",),
     "if": ("sum", "program", "program"),
-    "fork": ("word", "program", "names"),
-    "join": ("word", "word"),
+    "fork": ("name", "program", "names"),
+    "join": ("name", "slot"),
     "fail": (),
 }
 
@@ -31,7 +31,7 @@ def is_names(thing):
 
 def is_part(part, thing):
     """Whether the thing, any, can stand as this part of a STEP; a PROGRAM is looked at by another one."""
-    if part == "word":
+    if part in ("slot", "name"):
         return is_word(thing)
     if part == "cell":
         return is_number(thing) and thing >= 0

@@ -23,6 +23,12 @@ SIGNATURES = {
     "rows": ("row_of(rows, path)", "lost(store, program)"),
     "diagram": ("diagram(store, program)",),
     "ahead": ("is_ahead(drawn, one, other)", "chain_or_cut(drawn, one, other)"),
+    "aheadchecker": ("lets_chain(drawn, one, other, thing)", "lets_cut(drawn, one, other, thing)"),
+    "renaming": ("renamed(program, *, slots=(), names=(), cells=())",),
+    "texts": ("shown_program(program)",),
+    "readings": ("read_program(text, *, line=0)",),
+    "segments": ("seen_from(segments, number, cell)", "seen(segments, number)"),
+    "states": ("begun(store, program)",),
 }
 OF_ANY_THING = ("kinds.is_number", "kinds.is_word", "sums.is_sum", "stores.is_kind", "stores.is_store",
                 "programs.is_step", "programs.is_program")

@@ -1,5 +1,7 @@
 """Things of all kinds that tests hand in, and a look at what kind each told thing is."""
 
+from forkjoins.errors import JoinError
+
 GREAT = 10 ** 199 + 7
 SUM_FORMS = (
     ("num", 3),
@@ -54,3 +56,12 @@ def same(one, other):
     if type(one) in (tuple, list):
         return len(one) == len(other) and all(same(a, b) for a, b in zip(one, other))
     return one == other
+
+
+def refusal_of(function, *args, **named):
+    """The name of the refusal and its fields; None where what is asked is told."""
+    try:
+        function(*args, **named)
+    except JoinError as refusal:
+        return (type(refusal).__name__, *vars(refusal).values())
+    return None
