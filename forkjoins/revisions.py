@@ -1,4 +1,4 @@
-"""The helper of all that tells of the PLAIN RUN: its REVISIONS, run and with all that is noted of them."""
+"""The helper of all that runs: REVISIONS, what their STEPS do, and the PLAIN RUN with all that is noted of it."""
 
 from forkjoins.changes import changed
 from forkjoins.kinds import is_number
@@ -31,7 +31,7 @@ class Revision:
 
 
 class Run:
-    """A PLAIN RUN: its REVISIONS by their PATHS, the PATHS to which a handle was LOST, and who isn't THROUGH."""
+    """A run: its REVISIONS by their PATHS, the PATHS to which a handle was LOST, and who goes on in the PLAIN RUN."""
 
     def __init__(self, kinds):
         self.kinds = kinds

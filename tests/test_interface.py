@@ -29,6 +29,12 @@ SIGNATURES = {
     "readings": ("read_program(text, *, line=0)",),
     "segments": ("seen_from(segments, number, cell)", "seen(segments, number)"),
     "states": ("begun(store, program)",),
+    "steps": ("able(state)", "waiting(state)", "step(state, path)"),
+    "paces": ("run(state, pace, *, most=400)", "finished(state, *, by=(0,))"),
+    "views": ("view(state, path)", "beginning(state, path)"),
+    "segmentpapers": ("places_paper(state)",),
+    "segmentchecker": ("lets_places(state, thing)",),
+    "events": ("events(store, program)", "comes_ahead(store, program, one, other)"),
 }
 OF_ANY_THING = ("kinds.is_number", "kinds.is_word", "sums.is_sum", "stores.is_kind", "stores.is_store",
                 "programs.is_step", "programs.is_program")

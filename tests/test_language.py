@@ -13,6 +13,10 @@ ALLOWED = set((
     "isinstance ord repr any all divmod Exception ValueError TypeError KeyError IndexError LookupError "
     "ZeroDivisionError ArithmeticError OverflowError RuntimeError NotImplementedError AttributeError "
     "StopIteration NotImplemented").split())
+METHODS = set((
+    "append clear copy count endswith extend find get index insert isalnum isalpha isdigit islower isspace isupper items "
+    "join keys ljust lower lstrip partition pop remove replace reverse rfind rjust rpartition rsplit rstrip setdefault "
+    "split splitlines startswith strip update upper values zfill bit_length removeprefix removesuffix").split())
 BARRED = set((
     "register mro elements open input version_info with_traceback add_note attrgetter breakpoint builtins compile "
     "copyright credits delattr dir eval exec exit gc getattr globals hasattr help id importlib license locals "
@@ -20,6 +24,8 @@ BARRED = set((
 WORDS = re.compile(
     r"\b(type|typing|typing_extensions|enum|Enum|IntEnum|StrEnum|Flag|IntFlag|Generic|Protocol|ABC|ABCMeta|"
     r"namedtuple|NamedTuple|TypedDict|TYPE_CHECKING|abstractmethod)\b|dataclass|overload|contextmanager")
+ITERATED = ("zip", "enumerate", "reversed", "range", "items", "keys", "values")
+ITERATING = ("list", "tuple", "dict", "sorted", "sum", "any", "all", "enumerate", "zip", "min", "max")
 STATEMENTS = (ast.Global, ast.AsyncFunctionDef, ast.AsyncFor, ast.AsyncWith, ast.Await, ast.Import, ast.Div)
 FUNCTIONS = (ast.FunctionDef, ast.Lambda)
 
@@ -131,3 +137,24 @@ class Code(unittest.TestCase):
             for node in ast.walk(tree):
                 if isinstance(node, ast.Name) and hasattr(builtins, node.id):
                     self.assertIn(node.id, ALLOWED, path.name)
+
+    def test_methods(self):
+        own = {node.name for _, tree in self.trees() for node in ast.walk(tree) if isinstance(node, ast.FunctionDef)}
+        for path, tree in self.trees():
+            for node in ast.walk(tree):
+                if isinstance(node, ast.Call) and isinstance(node.func, ast.Attribute):
+                    self.assertIn(node.func.attr, METHODS | own, path.name)
+                    self.assertTrue(node.func.attr in own or not node.keywords, path.name)
+
+    def test_sets_and_what_is_iterated_at_once(self):
+        """A set stands in sorted or len, a dict's view in a loop or a call of those that iterate at once."""
+        for path, tree in self.trees():
+            above = {below: node for node in ast.walk(tree) for below in ast.iter_child_nodes(node)}
+            for node in ast.walk(tree):
+                self.assertNotIsInstance(node, ast.GeneratorExp, path.name)
+                if isinstance(node, (ast.Set, ast.SetComp)):
+                    self.assertIn(ast.unparse(above[node].func), ("sorted", "len"), path.name)
+                if isinstance(node, ast.Call) and ast.unparse(node.func).split(".")[-1] in ITERATED:
+                    home = above[node]
+                    called = isinstance(home, ast.Call) and ast.unparse(home.func) in ITERATING
+                    self.assertTrue(called or isinstance(home, (ast.For, ast.comprehension)), (path.name, ast.unparse(home)))

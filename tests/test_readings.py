@@ -14,7 +14,7 @@ from tests.things import is_plain_told, refusal_of, same
 
 ALPHABET = "abcdefghijklmnopqrstuvwxyz"
 # Words that can stand nowhere.
-NOWHERE = ("", "00", "01", "-0", "-01", "+1", "--1", "1-", "1a", "a1", "A", "aB", "abcdefghi", "{}", "1000000000000",
+NOWHERE = ("", "00", "01", "-0", "-01", "+1", "--1", "1-", "1a", "1x", "a1", "A", "aB", "abcdefghi", "{}", "1000000000000",
            "-1000000000000", "a\n", "\n", "1\n", "{\n", "a,b", "(", ")", "[", "*", ">", "<=", "=", ".", "_", "a_b", "0x1",
            "1_0", "~", "\t", "a\tb", "1.5", "!", "'a'", "-a", "+a")
 
