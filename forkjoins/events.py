@@ -4,6 +4,9 @@ from forkjoins.diagram import diagram
 from forkjoins.errors import NoRevision
 from forkjoins.kinds import is_number, is_numbers
 
+# The words of the STEPS that look at a CELL or turn it.
+ACCESSES = ("read", "has", "write", "add", "put", "take", "row")
+
 
 def events_among(noted):
     """Of what a DIAGRAM notes of a REVISION the EVENTS: all that has a CELL or a PATH."""
@@ -45,14 +48,14 @@ def is_name(ahead, thing):
 
 
 def all_ahead(ahead, name):
-    """The names of all EVENTS that are AHEAD of the one of this name, as the keys of a dict."""
+    """The names of all EVENTS that are AHEAD of this one, each with one NEXT BEHIND it from which one comes here."""
     found = {}
     waiting = [name]
     while waiting:
         here = waiting.pop()
         for near in ahead[here]:
             if near not in found:
-                found[near] = True
+                found[near] = here
                 waiting.append(near)
     return found
 

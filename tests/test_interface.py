@@ -35,6 +35,12 @@ SIGNATURES = {
     "segmentpapers": ("places_paper(state)",),
     "segmentchecker": ("lets_places(state, thing)",),
     "events": ("events(store, program)", "comes_ahead(store, program, one, other)"),
+    "races": ("races(store, program)",),
+    "racepapers": ("race_paper(store, program)",),
+    "racechecker": ("lets_races(store, program, thing)",),
+    "threads": ("woven(store, program, *, pace=())", "end_of(store, program, schedule)"),
+    "schedules": ("all_ends(store, program, *, most=3000)", "unlike(store, program, *, most=3000)"),
+    "again": ("run_again(store, elder, newer)", "gone(store, elder, newer)"),
 }
 OF_ANY_THING = ("kinds.is_number", "kinds.is_word", "sums.is_sum", "stores.is_kind", "stores.is_store",
                 "programs.is_step", "programs.is_program")
