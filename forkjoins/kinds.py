@@ -1,4 +1,4 @@
-"""NUMBERS and WORDS, and tuples that rise."""
+"""NUMBERS and WORDS, tuples that rise, and things that are the same."""
 
 LETTERS = "abcdefghijklmnopqrstuvwxyz"
 LONGEST = 8
@@ -24,3 +24,12 @@ def is_numbers(thing):
 def rises(things):
     """Whether each of the things, all of one kind, is above the one ahead of it."""
     return all([low < high for low, high in zip(things, things[1:])])
+
+
+def is_same(known, thing):
+    """Whether the thing, any, is the known one, which is made of NUMBERS, texts, None and tuples; True is no 1."""
+    if not isinstance(known, tuple):
+        return known == thing and not isinstance(thing, bool)
+    if not isinstance(thing, tuple) or len(thing) != len(known):
+        return False
+    return all([is_same(inner, part) for inner, part in zip(known, thing)])

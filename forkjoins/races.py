@@ -1,14 +1,13 @@
 """RACES: ACCESSES that MEET, neither of them AHEAD of the other."""
 
 from forkjoins.changes import WRITING
-from forkjoins.events import ACCESSES, all_ahead, events, next_ahead
+from forkjoins.events import all_ahead, events, next_ahead
 
 
 def meet(one, other):
     """Whether the EVENTS of two rows MEET."""
-    if one[2] not in ACCESSES or other[2] not in ACCESSES:
-        return False
     writing = one[2] in WRITING or other[2] in WRITING
+    # A CELL stands in ACCESSES alone: so where one of both is WRITING the other one is an ACCESS, too.
     return writing and one[0] != other[0] and one[3] == other[3]
 
 

@@ -44,6 +44,11 @@ def writes_number(word):
     return word == "0" or figures[0] != "0"
 
 
+def writes_natural(word):
+    """Whether a word writes a NUMBER from 0 on that can be read."""
+    return writes_number(word) and int(word) >= 0
+
+
 def read_word(reader):
     """A SLOT, a NAME."""
     word = next_word(reader)
@@ -54,7 +59,7 @@ def read_word(reader):
 def read_cell(reader):
     """A CELL."""
     word = next_word(reader)
-    read_over(reader, writes_number(word) and int(word) >= 0)
+    read_over(reader, writes_natural(word))
     return int(word)
 
 
@@ -74,7 +79,7 @@ def read_sum(reader, around):
 def read_names(reader):
     """NAMES: how many there are, and each."""
     many = next_word(reader)
-    read_over(reader, writes_number(many) and 0 <= int(many) <= MOST_NAMES)
+    read_over(reader, writes_natural(many) and int(many) <= MOST_NAMES)
     names = []
     while len(names) < int(many):
         word = next_word(reader)

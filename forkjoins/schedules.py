@@ -22,8 +22,7 @@ def copied(hands):
     """The hands once more, so that these may go on otherwise."""
     cells = list(hands.revisions[()].cells)
     others = Run(hands.kinds)
-    for path, hand in hands.revisions.items():
-        others.revisions[path] = copied_hand(hand, cells)
+    others.revisions = {path: copied_hand(hand, cells) for path, hand in hands.revisions.items()}
     return others
 
 

@@ -41,6 +41,21 @@ SIGNATURES = {
     "threads": ("woven(store, program, *, pace=())", "end_of(store, program, schedule)"),
     "schedules": ("all_ends(store, program, *, most=3000)", "unlike(store, program, *, most=3000)"),
     "again": ("run_again(store, elder, newer)", "gone(store, elder, newer)"),
+    "againchecker": ("lets_again(store, elder, newer, thing)",),
+    "ways": ("ways(program)", "at_way(program, way)", "put_at(program, way, thing)"),
+    "cuts": ("cut_ahead(program, way)",),
+    "storetexts": ("shown_store(store)", "shown_values(values)", "shown_path(path)"),
+    "storereader": ("read_store(text)", "read_path(text)"),
+}
+METHODS = {
+    "books.Book": ("__init__(self, store, *, program=())", "change(self, way, thing)", "back(self, times=1)", "store_now(self)",
+                   "program_now(self)", "rows_now(self)", "again_now(self)", "then(self, k)", "__len__(self)", "__str__(self)",
+                   "__eq__(self, other)"),
+    "desk.Desk": ("__init__(self)", "say(self, row)", "counts(self)", "is_open(self)"),
+}
+NUMBERS = {
+    "orders.REACH": 1, "programs.MOST_STEPS": 30, "programs.MOST_DEEP": 5, "programs.MOST_FORKS": 12, "paces.LIMIT": 400,
+    "schedules.MOST": 3000,
 }
 OF_ANY_THING = ("kinds.is_number", "kinds.is_word", "sums.is_sum", "stores.is_kind", "stores.is_store",
                 "programs.is_step", "programs.is_program")
@@ -62,6 +77,17 @@ class Names(unittest.TestCase):
                 function = getattr(module(name), row[:row.index("(")])
                 self.assertEqual(function.__name__ + str(inspect.signature(function)), row)
                 self.assertEqual(function.__module__, "forkjoins." + name)
+
+
+    def test_methods_stand_in_their_classes(self):
+        for dotted, rows in METHODS.items():
+            for row in rows:
+                method = vars(found(dotted))[row[:row.index("(")]]
+                self.assertEqual(method.__name__ + str(inspect.signature(method)), row)
+
+    def test_numbers(self):
+        for dotted, number in NUMBERS.items():
+            self.assertTrue(same(found(dotted), number), dotted)
 
 
 class AnyThing(unittest.TestCase):

@@ -28,6 +28,7 @@ ITERATED = ("zip", "enumerate", "reversed", "range", "items", "keys", "values")
 ITERATING = ("list", "tuple", "dict", "sorted", "sum", "any", "all", "enumerate", "zip", "min", "max")
 STATEMENTS = (ast.Global, ast.AsyncFunctionDef, ast.AsyncFor, ast.AsyncWith, ast.Await, ast.Import, ast.Div)
 FUNCTIONS = (ast.FunctionDef, ast.Lambda)
+DOUBLE = ("__init__", "__len__", "__str__", "__eq__")
 
 
 def bound_names(tree):
@@ -125,7 +126,7 @@ class Code(unittest.TestCase):
         for path, tree in self.trees():
             for name in bound_names(tree):
                 self.assertNotIn(name, BARRED, path.name)
-                if name != "__init__":
+                if name not in DOUBLE:
                     self.assertFalse(hasattr(builtins, name), (path.name, name))
                     self.assertFalse(name.startswith("_"), (path.name, name))
             taken = {alias.name for node in imports(tree) for alias in node.names}
@@ -145,6 +146,31 @@ class Code(unittest.TestCase):
                 if isinstance(node, ast.Call) and isinstance(node.func, ast.Attribute):
                     self.assertIn(node.func.attr, METHODS | own, path.name)
                     self.assertTrue(node.func.attr in own or not node.keywords, path.name)
+
+    def test_no_method_is_an_attribute(self):
+        nodes = [node for _, tree in self.trees() for node in ast.walk(tree)]
+        methods = {inner.name for node in nodes if isinstance(node, ast.ClassDef) for inner in node.body
+                   if isinstance(inner, ast.FunctionDef)}
+        stored = {node.attr for node in nodes if isinstance(node, ast.Attribute) and isinstance(node.ctx, ast.Store)}
+        read = {node.attr for node in nodes if isinstance(node, ast.Attribute) and isinstance(node.ctx, ast.Load)}
+        self.assertEqual(methods & stored, set())
+        self.assertEqual(read - stored - methods - METHODS, set())
+
+    def test_what_a_star_takes(self):
+        for path, tree in self.trees():
+            for node in ast.walk(tree):
+                if isinstance(node, ast.Assign) and any(isinstance(part, ast.Starred) for part in ast.walk(node.targets[0])):
+                    self.assertIsInstance(node.value, (ast.Name, ast.Attribute), path.name)
+
+    def test_finally_is_simple(self):
+        for path, tree in self.trees():
+            for node in ast.walk(tree):
+                if isinstance(node, ast.Try):
+                    for row in node.finalbody:
+                        self.assertIsInstance(row, (ast.Assign, ast.AugAssign), path.name)
+                        self.assertIsInstance(row.value, ast.Constant, path.name)
+                    for handler in node.handlers:
+                        self.assertRegex(ast.unparse(handler.type), "^No[A-Z][a-z]+$", path.name)
 
     def test_sets_and_what_is_iterated_at_once(self):
         """A set stands in sorted or len, a dict's view in a loop or a call of those that iterate at once."""

@@ -84,6 +84,13 @@ class Woven(Case):
         self.assertEqual(self.woven(text), ((2,), (10,), (10, 0)))
         self.assertEqual(self.woven(text, 2, 1), ((10, 0), (10,), (2,)))
 
+    def test_by_their_paths_not_by_their_age(self):
+        # (0, 0) is forked behind (1,).
+        text = "fork f { read a 0 fork h { read a 0 } 0 read a 0 } 0 fork g { read a 0 } 0"
+        self.assertEqual(self.woven(text), (F, F, (0, 0), G))
+        self.assertEqual(self.woven(text, 0, 1), (F, (0, 0), F, G))
+        self.assertEqual(self.woven(text, 0, 2), (F, G, F, (0, 0)))
+
     def test_those_that_waited(self):
         # () waits for F; G for the one that it was given.
         self.assertEqual(self.woven("fork f { read a 0 } 0 join f a read a 0"), (F, FIRST))
