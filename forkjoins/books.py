@@ -38,7 +38,7 @@ class Book:
             raise NoBack(times)
         elder = self.past[-times]
         self.again = run_again(self.store, self.program, elder)[1]
-        del self.past[-times:]
+        self.past = self.past[:-times]
         self.program = elder
         return elder
 

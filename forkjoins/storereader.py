@@ -27,12 +27,11 @@ def kind_of(text):
 
 def has_of(kind, text):
     """What a CELL of this KIND HAS by a text; None where it writes nothing such."""
-    many = kind in ("set", "list")
-    words = text.split(",") if text or not many else []
+    words = text.split(",") if text else []
     if not all([writes_number(word) for word in words]):
         return None
     numbers = tuple([int(word) for word in words])
-    if many:
+    if kind in ("set", "list"):
         return numbers if can_have(kind, numbers) else None
     return numbers[0] if len(numbers) == 1 else None
 

@@ -69,6 +69,8 @@ class New(Case):
         self.say("change . write 0 5", "yes")
         self.refused("change . add 0 5", "NoStep", "store")
         self.refused("change . read a 1", "NoStep", "store")
+        self.say("change . fork f { write 0 3 } 0 write 0 9 join f a", "yes")
+        self.say("values", "3")
 
     def test_by_name(self):
         self.assertEqual(self.desk.say(row="values"), "0")
